@@ -1,0 +1,1 @@
+"""Exact hits and misses of loops over arrays."""

@@ -1,0 +1,108 @@
+"""The rules for the files of the package that a look at its code can check."""
+
+import ast
+import pathlib
+import unittest
+
+# Where a rule allows something in a few places only, these lists leave it out altogether.
+FOLDER = pathlib.Path(__file__).resolve().parent.parent / "farmisses"
+FILES = sorted(FOLDER.rglob("*.py"))
+BUILTINS = """len range enumerate zip min max sum abs sorted reversed int str bool list tuple dict
+set isinstance ord repr any all divmod ValueError RuntimeError NotImplemented property classmethod
+staticmethod super TypeError KeyError""".split()
+BARRED = """register mro elements open input law type typing enum global eval exec id vars dir help
+sort format hash next iter map filter round object""".split()
+LIBRARY = {"heapq", "math", "itertools", "collections"}
+
+
+def trees():
+    for path in FILES:
+        yield path, ast.parse(path.read_text(encoding="ascii"))
+
+
+def names_of(tree):
+    for node in ast.walk(tree):
+        if isinstance(node, ast.Name):
+            yield node.id, node
+        elif isinstance(node, ast.Attribute):
+            yield node.attr, node
+        elif isinstance(node, (ast.FunctionDef, ast.ClassDef)):
+            yield node.name, node
+        elif isinstance(node, ast.arg):
+            yield node.arg, node
+
+
+class LanguageTest(unittest.TestCase):
+
+    def test_the_folder_holds_files_of_the_package_only(self):
+        self.assertGreater(len(FILES), 0)
+        for path in FOLDER.rglob("*"):
+            if "__pycache__" in path.parts:
+                continue
+            self.assertTrue(path in FILES or (path / "__init__.py") in FILES, path)
+            self.assertFalse(path.name.startswith("test"), path)
+
+    def test_characters_and_sizes(self):
+        for path in FILES:
+            text = path.read_text(encoding="ascii")
+            lines = text.split("\n")
+            self.assertTrue(text.endswith("\n"), path)
+            self.assertLessEqual(len(lines), 400, path)
+            for line in lines:
+                self.assertTrue(line == "" or line.isprintable(), path)
+                self.assertLessEqual(len(line), 120, path)
+
+    def test_functions_are_small(self):
+        for path, tree in trees():
+            for node in ast.walk(tree):
+                if isinstance(node, ast.FunctionDef):
+                    self.assertLessEqual(node.end_lineno - node.lineno + 1, 40, node.name)
+
+    def test_imports(self):
+        for path, tree in trees():
+            for node in ast.walk(tree):
+                self.assertNotIsInstance(node, (ast.Import, ast.Global, ast.AsyncFunctionDef), path)
+                if isinstance(node, ast.ImportFrom):
+                    self.assertIn(node, tree.body, path)
+                    self.assertEqual(node.level, 0, path)
+                    self.assertTrue(node.module.startswith("farmisses.") or node.module in LIBRARY)
+
+    def test_module_level(self):
+        kinds = (ast.ImportFrom, ast.FunctionDef, ast.ClassDef, ast.Assign, ast.Expr)
+        for path, tree in trees():
+            self.assertTrue(ast.get_docstring(tree), path)
+            for node in tree.body:
+                self.assertIsInstance(node, kinds, path)
+
+    def test_builtins_and_names(self):
+        known = vars(__builtins__) if not isinstance(__builtins__, dict) else __builtins__
+        for path, tree in trees():
+            for name, node in names_of(tree):
+                self.assertNotIn(name, BARRED, (path, node.lineno))
+                if isinstance(node, ast.Name) and name in known:
+                    self.assertIn(name, BUILTINS, (path, node.lineno))
+                if isinstance(node, (ast.arg, ast.ClassDef)):
+                    self.assertNotIn(name, known, (path, node.lineno))
+                if isinstance(node, ast.Name) and isinstance(node.ctx, ast.Store):
+                    self.assertNotIn(name, known, (path, node.lineno))
+
+    def test_values_and_expressions(self):
+        for path, tree in trees():
+            for node in ast.walk(tree):
+                place = (path, getattr(node, "lineno", 0))
+                self.assertNotIsInstance(node, (ast.GeneratorExp, ast.Div, ast.Set), place)
+                if isinstance(node, ast.Constant):
+                    self.assertNotIsInstance(node.value, (float, complex, bytes), place)
+                    if isinstance(node.value, str):
+                        self.assertNotIn(chr(37), node.value, place)
+
+    def test_everything_is_described(self):
+        for path, tree in trees():
+            for node in ast.walk(tree):
+                if isinstance(node, ast.ClassDef) or (
+                        isinstance(node, ast.FunctionDef) and not node.name.startswith("__")):
+                    self.assertTrue(ast.get_docstring(node), (path, node.name))
+
+
+if __name__ == "__main__":
+    unittest.main()
