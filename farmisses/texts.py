@@ -6,7 +6,6 @@ from farmisses.tokens import Reader, is_number, is_word
 
 _KEYWORDS = ("array", "for", "read", "write", "flush", "n")
 _STATEMENTS = ("for", "read", "write", "flush")
-_MOST_DIGITS = 150
 _MOST_POWER = 3
 _MOST_LOOPS = 5
 
@@ -130,7 +129,7 @@ def _part(reader, in_index):
     counter = ""
     goes_on = True
     if is_number(reader.token()):
-        number = _number(reader)
+        number = reader.pass_number()
         goes_on = reader.passes("*")
     while goes_on:
         if reader.passes("n"):
@@ -145,10 +144,3 @@ def _part(reader, in_index):
     if power > _MOST_POWER:
         raise TooLarge("degree")
     return (number, power, counter)
-
-
-def _number(reader):
-    """Read a NUMBER and return its value."""
-    if len(reader.token()) > _MOST_DIGITS:
-        raise TooLarge("numbers")
-    return int(reader.pass_any())

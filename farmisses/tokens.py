@@ -1,10 +1,11 @@
 """Splitting texts into tokens, and going over these from left to right."""
 
-from farmisses.errors import InvalidSyntax
+from farmisses.errors import InvalidSyntax, TooLarge
 
 _LETTERS = "abcdefghijklmnopqrstuvwxyz"
 _DIGITS = "0123456789"
 _GAPS = " \n"
+_MOST_DIGITS = 150
 
 
 def is_word(text):
@@ -79,6 +80,20 @@ class Reader:
         """Go behind this token; raise InvalidSyntax if another one comes next."""
         if not self.passes(token):
             raise InvalidSyntax(self.place())
+
+    def pass_one(self, tokens):
+        """Go behind one of these tokens and return it; raise InvalidSyntax if another one comes next."""
+        if self.token() not in tokens:
+            raise InvalidSyntax(self.place())
+        return self.pass_any()
+
+    def pass_number(self):
+        """Go behind a number and return its value; raise InvalidSyntax if none comes next."""
+        if not is_number(self.token()):
+            raise InvalidSyntax(self.place())
+        if len(self.token()) > _MOST_DIGITS:
+            raise TooLarge("numbers")
+        return int(self.pass_any())
 
     def pass_end(self):
         """Raise InvalidSyntax unless the text ends here."""

@@ -1,0 +1,67 @@
+"""Playing the statements of a plan, each round and each access by itself."""
+
+from farmisses.errors import LimitExceeded
+from farmisses.plans import Loop, Touch
+
+_MOST_DEPTH = 5
+
+
+class Player:
+    """Plays statements with a memory, in at most so many steps."""
+
+    def __init__(self, memory, most_steps):
+        self.memory = memory
+        self._counters = [0] * _MOST_DEPTH
+        self.steps = 0
+        self._most_steps = most_steps
+        self._cells = memory.cache.line
+
+    def step(self):
+        """Count a step; raise LimitExceeded if there were too many."""
+        self.steps += 1
+        if self.steps > self._most_steps:
+            raise LimitExceeded("steps")
+
+    def play_block(self, block):
+        """Play the statements of a block."""
+        for statement in block:
+            if isinstance(statement, Touch):
+                self.play_touch(statement)
+            elif isinstance(statement, Loop):
+                self.play_loop(statement)
+            else:
+                self.play_flush()
+
+    def play_touch(self, touch):
+        """Play an access."""
+        self.step()
+        line = touch.index_at(self._counters) // self._cells
+        self.memory.play(touch.array, line, touch.is_write, touch.number)
+
+    def play_loop(self, loop):
+        """Play a loop."""
+        self.play_rounds(loop, 0, loop.rounds)
+
+    def play_rounds(self, loop, begin, end):
+        """Play the rounds of a loop from begin on, the round end not included."""
+        for number in range(begin, end):
+            self.play_round(loop, number)
+
+    def play_round(self, loop, number):
+        """Play one round of a loop."""
+        self.step()
+        self._counters[loop.depth] = number
+        self.play_block(loop.block)
+
+    def play_flush(self):
+        """Play a flush, which is no step of a way."""
+        self.memory.flush()
+
+
+class PlainPlayer(Player):
+    """Plays statements; a flush is a step, too."""
+
+    def play_flush(self):
+        """Play a flush."""
+        self.step()
+        self.memory.flush()
