@@ -41,6 +41,14 @@ class Level:
         self._shadow[key] = True
         return was_there
 
+    def lines(self):
+        """Return the list of the pairs (array, line) of all lines in the sets and in the shadow."""
+        return [line for row in self._rows for line in row.lines()] + list(self._shadow)
+
+    def lines_beside(self, array, number):
+        """Return the list of the lines of an array with which one with this number in the memory is compared."""
+        return [line for owner, line in self.row(number).lines() + list(self._shadow) if owner == array]
+
     def picture(self):
         """Return the pair (sets, shadow) as the state of a memory has it."""
         return (tuple([row.picture() for row in self._rows]), tuple(reversed(list(self._shadow))))

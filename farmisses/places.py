@@ -29,6 +29,10 @@ class Places:
         array, line, is_dirty, _ = self._held[place]
         return (array, line, is_dirty or makes_dirty, access)
 
+    def lines(self):
+        """Return the list of the pairs (array, line) of the lines."""
+        return [held[:2] for held in self._held]
+
     def dirty(self):
         """Return how many lines are dirty."""
         return len([True for _, _, is_dirty, _ in self._held if is_dirty])

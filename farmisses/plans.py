@@ -1,5 +1,7 @@
 """Programs made ready for one number: all sizes are numbers, and counters are known by their depth."""
 
+from math import gcd, lcm
+
 from farmisses.sizes import Size
 
 
@@ -33,14 +35,18 @@ class Loop:
 
     touched is the list of the pairs (touch, inner) of the accesses in it that are made, if it has a
     round itself: inner is the tuple of the pairs (depth, rounds) of the loops between it and the access.
+    factors is the dict from the arrays touched to the factors of its counter, None if it is not even;
+    pace is its pace for a period, 0 if it is not even.
     """
 
-    def __init__(self, depth, rounds, block, many, touched):
+    def __init__(self, depth, rounds, block, period):
         self.depth = depth
         self.rounds = rounds
         self.block = block
-        self.many = many
-        self.touched = touched
+        self.many = accesses_in(block)
+        self.touched = touched_in(block)
+        self.factors = even_factors(self.touched, depth)
+        self.pace = 0 if self.factors is None else pace_of(self.factors, period)
 
 
 class Flush:
@@ -48,11 +54,12 @@ class Flush:
 
 
 class Planner:
-    """Makes the statements of a program ready for a number."""
+    """Makes the statements of a program ready for a number, and for caches with a period."""
 
-    def __init__(self, program, n):
+    def __init__(self, program, n, period):
         self._indexes = {name: at for at, name in enumerate(program.arrays)}
         self._n = n
+        self._period = period
         self._number = 0
 
     def made_block(self, block, counters):
@@ -66,9 +73,7 @@ class Planner:
         if statement[0] == "for":
             _, counter, parts, inner = statement
             rounds = max(0, Size(parts)(self._n))
-            block = self.made_block(inner, counters + [counter])
-            touched = touched_in(block)
-            return Loop(len(counters), rounds, block, accesses_in(block), touched)
+            return Loop(len(counters), rounds, self.made_block(inner, counters + [counter]), self._period)
         return self._touch(statement, counters)
 
     def _touch(self, statement, counters):
@@ -81,9 +86,9 @@ class Planner:
         return Touch(number, self._indexes[array], word == "write", begin, tuple(values))
 
 
-def plan(program, n):
-    """Return the list of the statements of a program made ready for n."""
-    return Planner(program, n).made_block(program.body, [])
+def plan(program, n, period=1):
+    """Return the list of the statements of a program made ready for n, and for caches with a period."""
+    return Planner(program, n, period).made_block(program.body, [])
 
 
 def accesses_in(block):
@@ -108,6 +113,24 @@ def touched_in(block):
             own = (statement.depth, statement.rounds)
             found.extend([(touch, (own, *inner)) for touch, inner in statement.touched])
     return found
+
+
+def even_factors(touched, depth):
+    """Return the dict from arrays to the factors of the counter of a depth, None if an array has two."""
+    factors = {}
+    for touch, _ in touched:
+        factor = touch.factor_at(depth)
+        if factors.setdefault(touch.array, factor) != factor:
+            return None
+    return factors
+
+
+def pace_of(factors, period):
+    """Return the least number of rounds in which each array moves by a multiple of a period."""
+    pace = 1
+    for factor in list(factors.values()):
+        pace = lcm(pace, period // gcd(period, factor))
+    return pace
 
 
 def bases_of(program, cache, n):

@@ -25,17 +25,20 @@ class Player:
     def play_block(self, block):
         """Play the statements of a block."""
         for statement in block:
-            if isinstance(statement, Touch):
-                self.play_touch(statement)
-            elif isinstance(statement, Loop):
-                self.play_loop(statement)
-            else:
-                self.play_flush()
+            self.play_statement(statement)
 
-    def play_touch(self, touch):
-        """Play an access."""
-        self.step()
-        line = touch.index_at(self._counters) // self._cells
+    def play_statement(self, statement):
+        """Play a statement."""
+        if isinstance(statement, Touch):
+            self.step()
+            self.play_touch(statement, statement.index_at(self._counters) // self._cells)
+        elif isinstance(statement, Loop):
+            self.play_loop(statement)
+        else:
+            self.play_flush()
+
+    def play_touch(self, touch, line):
+        """Play an access to a line."""
         self.memory.play(touch.array, line, touch.is_write, touch.number)
 
     def play_loop(self, loop):
@@ -44,6 +47,9 @@ class Player:
 
     def play_rounds(self, loop, begin, end):
         """Play the rounds of a loop from begin on, the round end not included."""
+        # Each round is a step, so that it is known here whether there are too many.
+        if end - begin > self._most_steps - self.steps:
+            raise LimitExceeded("steps")
         for number in range(begin, end):
             self.play_round(loop, number)
 

@@ -35,6 +35,36 @@ def first_outside(program, n):
     return None
 
 
+def facts(program, n):
+    """Return the list of numbers that are above 0 where a program fits n.
+
+    For all numbers for which they are, the same loops have rounds, the same accesses are made, and
+    the counters make an index least and greatest with the same values.
+    """
+    found = []
+    for array in program.arrays:
+        cells = Size(program.size_of(array))(n)
+        found.append(1 + cells if cells >= 0 else -cells)
+    _add_facts(program.body, n, found)
+    for access, least, greatest in extents(program, n):
+        _, array, _ = program.accesses[access]
+        found.extend([least + 1, Size(program.size_of(array))(n) - greatest])
+    return found
+
+
+def _add_facts(block, n, found):
+    """Add what is above 0 for the loops and factors of a block."""
+    for statement in block:
+        if statement[0] == "for":
+            rounds = Size(statement[2])(n)
+            found.append(rounds if rounds > 0 else 1 - rounds)
+            if rounds > 0:
+                _add_facts(statement[3], n, found)
+        elif statement[0] != "flush":
+            _, factors = statement[2]
+            found.extend([abs(value) for value in [Size(factor)(n) for _, factor in factors] if value != 0])
+
+
 def extents(program, n):
     """Return the list of (access, least index, greatest index) of the accesses that are made."""
     found = []

@@ -91,7 +91,7 @@ def excess(tree):
     """Return the word of the first limit that a tree exceeds, None if it exceeds none."""
     arrays, block = tree
     statements = statements_of(block)
-    sizes = _sizes_of(arrays, statements)
+    sizes = sizes_of(tree)
     if any([abs(part) >= _BEYOND_DIGITS for parts in sizes for part in parts]):
         return "numbers"
     if any([len(parts) > _MOST_PARTS for parts in sizes]):
@@ -107,10 +107,11 @@ def excess(tree):
     return None
 
 
-def _sizes_of(arrays, statements):
-    """Return the list of the parts of all sizes in arrays and statements."""
+def sizes_of(tree):
+    """Return the list of the parts of all sizes in a tree."""
+    arrays, block = tree
     sizes = [parts for _, parts in arrays]
-    for statement in statements:
+    for statement in statements_of(block):
         if statement[0] == "for":
             sizes.append(statement[2])
         elif statement[0] != "flush":

@@ -245,22 +245,29 @@ def some_cache(random_, most_period=64):
             return cache
 
 
-def some_program(random_, loops=2, names="ab", bounds=("n", "n", "2*n", "n - 1", "3"), factors=("1", "1", "2", "n", "-1", "3")):
-    """A text of a program with long arrays; factors below 0 begin high up."""
+def some_program(random_, loops=2, names="ab", bounds=("n", "n", "2*n", "n - 1", "3"),
+                 factors=("1", "1", "2", "n", "-1", "3"), even=False):
+    """A program with long arrays; factors below 0 begin high up; where even, those of an array are equal."""
     count = [0]
+    known = {}
+
+    def some_factor(name, counter):
+        factor = random_.choice(factors) if random_.random() < 0.75 else None
+        return known.setdefault((name, counter), factor) if even else factor
 
     def access(counters):
+        name = random_.choice(names)
         terms, begin = [], random_.choice(["0", "0", "1", "5", "n"])
         for counter in counters:
-            if random_.random() < 0.75:
-                factor = random_.choice(factors)
+            factor = some_factor(name, counter)
+            if factor is not None:
                 if factor.startswith("-"):
                     begin = "9*n*n + 40"
                     terms.append(f"- {factor[1:]}*{counter}")
                 else:
                     terms.append(f"+ {factor}*{counter}")
         word = random_.choice(["read", "read", "write"])
-        return f"{word} {random_.choice(names)}[{begin} {' '.join(terms)}]"
+        return f"{word} {name}[{begin} {' '.join(terms)}]"
 
     def block(depth, counters):
         lines = []

@@ -9,7 +9,7 @@ FOLDER = pathlib.Path(__file__).resolve().parent.parent / "farmisses"
 FILES = sorted(FOLDER.rglob("*.py"))
 BUILTINS = """len range enumerate zip min max sum abs sorted reversed int str bool list tuple dict
 set isinstance ord repr any all divmod ValueError RuntimeError NotImplemented property classmethod
-staticmethod super TypeError KeyError iter next""".split()
+staticmethod super Exception TypeError KeyError iter next""".split()
 BARRED = """register mro elements open input law type typing enum global eval exec id vars dir help
 sort format hash map filter round object""".split()
 LIBRARY = {"heapq", "math", "itertools", "collections"}
