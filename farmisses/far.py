@@ -63,8 +63,9 @@ def _stays_above(parts, number):
 class FarNumbers:
     """What a way asks and tells about far numbers, and from which m on all of it is so."""
 
-    def __init__(self, width):
+    def __init__(self, width, together):
         self._width = width
+        self._together = together
         self._half = 1 << (width - 1)
         # Lines that lie a number with m apart, without what has no m: the least of these parts.
         self._apart = {}
@@ -101,17 +102,21 @@ class FarNumbers:
         spans = {}
         for array, line in lines:
             near = self.near_part(line)
-            least, greatest = spans.get((array, line - near), (near, near))
-            spans[(array, line - near)] = (min(least, near), max(greatest, near))
+            key = (array, near % self._together, line - near)
+            least, greatest = spans.get(key, (near, near))
+            spans[key] = (min(least, near), max(greatest, near))
         order = sorted(list(spans))
         # Where each span lies behind the one before, no two lines meet.
         for before, behind in zip(order, order[1:]):
-            if before[0] == behind[0]:
-                self._note_apart(behind[1] - before[1], spans[behind][0] - spans[before][1])
+            if before[:2] == behind[:2]:
+                self._note_apart(behind[2] - before[2], spans[behind][0] - spans[before][1])
 
     def _note_apart(self, far, near):
-        """Note that a sum is taken to be above 0, far being a number with m."""
-        if near < self._apart.get(far, near + 1):
+        """Note that a sum is taken not to be 0, far being a number with m.
+
+        Lines that do not lie in the same sets at all levels are different ones for each m.
+        """
+        if near % self._together == 0 and near < self._apart.get(far, near + 1):
             self._apart[far] = near
 
     def least(self):

@@ -110,7 +110,7 @@ def _cases_found(program, cache, period):
     cases = []
     for rest in range(period):
         n = rest + (period << width)
-        numbers = FarNumbers(width)
+        numbers = FarNumbers(width, cache.sets_together)
         way = Search(program, cache, n, numbers)
         try:
             way.play_block(way.block)
@@ -126,7 +126,7 @@ def _cases_told(program, cache, period, papers):
     cases = []
     for rest, (least, entries) in enumerate(papers):
         n = rest + (period << width)
-        numbers = FarNumbers(width)
+        numbers = FarNumbers(width, cache.sets_together)
         way = Follow(program, cache, n, numbers, entries)
         if not follows(way) or least < _least(program, n, numbers):
             return None

@@ -57,7 +57,7 @@ class Planner:
     """Makes the statements of a program ready for a number, and for caches with a period."""
 
     def __init__(self, program, n, period):
-        self._indexes = {name: at for at, name in enumerate(program.arrays)}
+        self._arrays = {name: at for at, name in enumerate(program.arrays)}
         self._n = n
         self._period = period
         self._number = 0
@@ -83,7 +83,7 @@ class Planner:
         number = self._number
         self._number += 1
         begin = Size(parts)(self._n)
-        return Touch(number, self._indexes[array], word == "write", begin, tuple(values))
+        return Touch(number, self._arrays[array], word == "write", begin, tuple(values))
 
 
 def plan(program, n, period=1):

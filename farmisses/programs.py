@@ -58,8 +58,8 @@ class Program:
     def __len__(self):
         return len(self._accesses)
 
-    def __contains__(self, value):
-        return isinstance(value, str) and value in self._sizes
+    def __contains__(self, x):
+        return isinstance(x, str) and x in self._sizes
 
     def __eq__(self, other):
         return isinstance(other, Program) and self._tree == other._tree

@@ -152,6 +152,26 @@ class CostsTest(unittest.TestCase):
                     self.assertGreaterEqual(begin, 21)
         self.assertEqual(costs(formula(SWEEP, ONE), {}).case(0)[1], ())
         self.assertEqual(sweep.case(0)[1], (-1, 2))
+        self.assertEqual(forty.case(0)[1], (40,))
+        self.assertEqual(costs(formula(Program.read("array a 9 read a[0]"), ONE)).case(0), (0, (1,)))
+
+    def test_where_the_cases_of_a_sum_begin(self):
+        one, other = formula(BOTH, TWO), formula(BOTH, THREE)
+        both = costs(one) - costs(other)
+        self.assertEqual((one.period, other.period, both.period), (4, 3, 12))
+        for rest in range(12):
+            begins = [rest % told.period + told.period * told.case(rest % told.period)[0] for told in [one, other]]
+            least, _ = both.case(rest)
+            self.assertGreaterEqual(rest + 12 * least, max(begins))
+            if least > 0:
+                self.assertLess(rest + 12 * (least - 1), max(begins))
+        self.assertGreater(max(both.case(rest)[0] for rest in range(12)), 0)
+
+    def test_signs_of_small_coefficients(self):
+        one = costs(formula(Program.read("array a n for i n { read a[i] }"), ONE))
+        self.assertEqual(one.case(0)[1], (0, 1))
+        self.assertEqual([sign for _, sign in one.signs()], [1])
+        self.assertEqual([sign for _, sign in (-one).signs()], [-1])
 
     def test_raises_as_the_formula(self):
         one = costs(formula(SWEEP, TWO)) + costs(formula(Program.read("array a n - 5 read a[0]"), ONE))

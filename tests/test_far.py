@@ -64,28 +64,39 @@ class NumbersTest(unittest.TestCase):
         width = 50
         for lines, least in [([(3,), (9,)], 0), ([(3,), (9, 1)], 0), ([(3,), (0, 1)], 4), ([(3,), (-2, 1), (8, 1)], 6),
                              ([(3,), (40, -2)], 19), ([(0, 1), (-7, 2), (5,)], 8), ([(0, 0, 1), (90, 1)], 11)]:
-            numbers = FarNumbers(width)
+            numbers = FarNumbers(width, 1)
             numbers.see_lines([(0, value(line, width)) for line in lines] + [(1, 5)])
             self.assertEqual(numbers.least(), least, lines)
-            numbers = FarNumbers(width)
+            numbers = FarNumbers(width, 1)
             for line in lines:
                 numbers.see_apart(value(line, width), [value(other, width) for other in lines])
             self.assertEqual(numbers.least(), least, lines)
 
     def test_lines_of_two_arrays_do_not_meet(self):
-        numbers = FarNumbers(50)
+        numbers = FarNumbers(50, 1)
         numbers.see_lines([(0, 5), (1, value((0, 1), 50))])
         self.assertEqual(numbers.least(), 0)
 
+    def test_lines_of_different_sets_do_not_meet(self):
+        for lines, least in [([(3,), (0, 6)], 0), ([(3,), (1, 6)], 1), ([(20,), (7, 6), (2, 6)], 4),
+                             ([(21,), (7, 6), (2, 6)], 3), ([(20,), (0, 6), (22,)], 4), ([(20,), (21,), (0, 6)], 4)]:
+            numbers = FarNumbers(50, 2)
+            numbers.see_lines([(0, value(line, 50)) for line in lines])
+            self.assertEqual(numbers.least(), least, lines)
+            numbers = FarNumbers(50, 2)
+            for line in lines:
+                numbers.see_apart(value(line, 50), [value(other, 50) for other in lines])
+            self.assertEqual(numbers.least(), least, lines)
+
     def test_numbers_above_zero(self):
-        numbers = FarNumbers(50)
+        numbers = FarNumbers(50, 1)
         numbers.see_above(value((-10, 1), 50))
         numbers.see_above(value((-5, 1), 50))
         numbers.see_above(4)
         self.assertEqual(numbers.least(), 11)
 
     def test_rounds(self):
-        numbers = FarNumbers(50)
+        numbers = FarNumbers(50, 1)
         for parts, many, goes in [((5,), 3, True), ((5, 6), 3, True), ((5, 6), 4, False), ((5, 6, 4), 3, False),
                                   ((5, 6, -9), 3, True), ((1, 8, 12), 4, True)]:
             self.assertIs(numbers.goes_into(value(parts, 50), many), goes)

@@ -200,6 +200,71 @@ class FormulasTest(FormulaCase):
         self.assertEqual(caught.exception.access, 2)
         self.assertEqual(told(27), count(program, FOUR, 27))
 
+    def check_small(self, text, *caches):
+        """Compare a formula with counts for all small numbers: each of its comparisons may fail for some."""
+        program = Program.read(text)
+        for cache in caches:
+            told = formula(program, Cache.read(cache))
+            for n in range(80):
+                self.assertEqual(outcome(told, n), outcome(count, program, Cache.read(cache), n), (text, cache, n))
+            for rest in range(told.period):
+                # Not much more is needed than where the number 40 in the text makes a difference.
+                self.assertLessEqual(told.case(rest)[0] * told.period, 120)
+
+    def test_lengths_that_change_their_side(self):
+        caches = ["line 1 level 2 1 used back", "line 2 level 3 1 brought back"]
+        self.check_small("array a n array b n - 40 array c n for i n { read a[i] read c[i] }", *caches)
+        self.check_small("array a n array b 40 - n array c n for i n { read a[i] read c[i] }", *caches)
+        self.check_small("array a n array b 0 array c n for i n { read a[i] read c[i] }", *caches)
+
+    def test_bounds_that_change_their_side(self):
+        caches = ["line 1 level 1 2 used back", "line 2 level 2 1 second back"]
+        self.check_small("array a 99 for i 40 - n { read a[i] }", *caches)
+        self.check_small("array a 99 array b n for i n { for k 40 - n { read a[k] } write b[i] }", *caches)
+        self.check_small("array a 99 array b n for i n - 40 { for k 10 { read a[k] } write b[i] }", *caches)
+        self.check_small("array a 99 array b n for k 0 { for i n - 40 { write b[i] } } read a[1]", *caches)
+        self.check_small("array a 99 for i 3 { for k 40 - n { read a[k + i] } }", *caches)
+
+    def test_factors_that_change_their_side(self):
+        caches = ["line 1 level 1 2 used back", "line 2 level 2 1 brought back"]
+        self.check_small("array a n*n for i n { read a[n*i - 40*i] }", *caches)
+        self.check_small("array a n*n for k 3 { for i n { read a[n*i - 40*i + k] } }", *caches)
+        self.check_small("array a n*n for i n { read a[n*n - n*i + 40*i - 1] }", *caches)
+
+    def test_indexes_that_change_their_side(self):
+        caches = ["line 1 level 1 2 used back", "line 2 level 2 1 brought back"]
+        self.check_small("array a n read a[n - 40] read a[40]", *caches)
+        self.check_small("array a n*n for i n { read a[n*i - 40 + n] }", *caches)
+        self.check_small("array a n*n - 40 for i n { read a[i] }", *caches)
+
+    def test_lines_that_change_their_side(self):
+        # Lines that are told apart for great n are one for some small one.
+        caches = ["line 1 level 1 4 used back", "line 1 level 2 2 second back", "line 2 level 1 2 tree back",
+                  "line 1 level 1 3 brought through level 1 4 used back", "line 1 level 1 1 used back level 2 1 used back"]
+        for word in ["read", "write"]:
+            self.check_small(f"array a n + 99 {word} a[40] {word} a[n] {word} a[40] {word} a[n]", *caches)
+            self.check_small(f"array a n + 99 {word} a[40] for i 3 {{ {word} a[n + i] }} {word} a[40]", *caches)
+            self.check_small(f"array a n + 99 array b n {word} a[40] {word} a[n] for i n {{ {word} b[i] }} {word} a[n]",
+                             *caches)
+            self.check_small(f"array a 2*n + 99 array b n {word} a[40] for i n {{ {word} b[0] }} {word} a[2*n]", *caches)
+            self.check_small(f"array a 2*n + 99 array b n for i n {{ {word} a[40] }} for i n {{ {word} a[2*n] }}", *caches)
+        self.check_small("array a n + 99 read a[40] flush read a[n]", *caches)
+
+    def test_lines_that_sleep_from_some_number_on(self):
+        # The line of a[40] lies behind those of the loop for small n only.
+        caches = ["line 1 level 2 2 used back", "line 1 level 1 4 second through", "line 2 level 2 2 brought back"]
+        self.check_small("array a 9*n + 99 read a[40] for i n { write a[2*n + i] }", *caches)
+        self.check_small("array a 9*n + 99 read a[5*n] for i n { write a[40 + i] }", *caches)
+        self.check_small("array a 9*n + 99 read a[5*n] for i n { for k 2 { write a[40 + i + k] } }", *caches)
+        self.check_small("array a 9*n + 99 read a[41] for i n { write a[2*i] }", "line 1 level 2 2 used back")
+        # The line waits where nothing is brought; for small n the loop comes to it.
+        caches = ["line 1 level 1 4 second through", "line 2 level 1 2 used through", "line 1 level 2 1 brought through"]
+        self.check_small("array a 9*n + 99 read a[3*n - 40] for i 2*n { write a[i] }", *caches)
+        self.check_small("array a 9*n + 99 read a[n + 40] for i n { write a[3*n - i] }", *caches)
+        self.check_small("array a 9*n + 99 read a[n + 40] for i n { for k 2 { write a[3*n - i - k] } }", *caches)
+        self.check_small("array a 9*n + 99 read a[3*n - 40] for i n { for k 3 { write a[i + k] } }", *caches)
+        self.check_small("array a 9*n + 99 read a[2*n - 41] for i n { write a[i] } read a[n]", *caches)
+
     def test_limits(self):
         with self.assertRaises(LimitExceeded) as caught:
             formula(HARD, FOUR)

@@ -104,6 +104,10 @@ class PapersTest(PaperCase):
         program = Program.read("array a 4*n for i n { read a[i] read a[2*i] }")
         self.check_refused(program, ONE, 30, ((8, 4),))
         self.check_told(program, ONE, 30, (None,), 90)
+        program = Program.read("array a 4*n for i n { read a[i] for k 1 { read a[2*i] } }")
+        self.check_refused(program, ONE, 30, ((8, 4), *(None,) * 12))
+        self.check_refused(program, ONE, 30, ((8, 1), *(None,) * 9))
+        self.assertEqual(paper(program, ONE, 30), (None,) * 31)
         # An access in a loop without rounds is not made, so the factors are equal.
         program = Program.read("array a 4*n for i n { read a[i] for k n - 30 { read a[2*i] } }")
         value = ((1, 1), None, None)
@@ -209,6 +213,32 @@ class ReturnsTest(PaperCase):
                        0, 5)
         self.check_all("array a 99 array b 99 for i 14 { read a[i] read b[0] write a[i + 3] }",
                        "line 2 level 1 4 used back level 2 2 brought through", 0, 2)
+
+    def test_the_ends_of_what_a_loop_touches(self):
+        through = "line 1 level 1 4 used through"
+        for line in [6, 7, 8, 19, 20, 21, 22]:
+            self.check_all(f"array a 99 read a[{line}] for i 10 {{ for k 3 {{ write a[2*i + k] }} }}", through, 0, 0)
+            self.check_all(f"array a 99 read a[{line}] for i 10 {{ for k 3 {{ write a[40 - 2*i - k] }} }}", through, 0, 0)
+            self.check_all(f"array a 99 read a[{line}] for i 10 {{ for k 3 {{ write a[2*i - k + 2] }} }}", through, 0, 0)
+        for line in [36, 37, 38, 39, 40, 41]:
+            self.check_all(f"array a 99 read a[{line}] for i 10 {{ for k 2 {{ write a[4*i + k] }} }}",
+                           "line 2 level 1 2 used through", 0, 0)
+            self.check_all(f"array a 99 for k 2 {{ for l 2 {{ read a[{line}] for i 6 {{ write a[4*i + 20*k] }} }} }}",
+                           "line 2 level 1 2 used through", 0, 0)
+
+    def test_the_places_between_that_are_not_touched(self):
+        for line in [15, 16, 17, 18, 22, 23, 24]:
+            self.check_all(f"array a 199 read a[{line}] for i 6 {{ for k 2 {{ write a[8*i + k] }} }}",
+                           "line 1 level 8 1 used through", 0, 0)
+            self.check_all(f"array a 199 read a[{line}] for i 6 {{ for k 2 {{ write a[41 - 8*i - k] }} }}",
+                           "line 1 level 8 1 used through", 0, 0)
+            self.check_all(f"array a 199 read a[{line}] for i 6 {{ for k 3 {{ write a[4*i + 6*k] }} }}",
+                           "line 1 level 4 2 used through", 0, 0)
+        for line in [19, 20, 21, 22, 23, 24]:
+            self.check_all(f"array a 199 read a[{line}] for i 10 {{ write a[4*i + 1] }}",
+                           "line 2 level 2 1 used through", 0, 0)
+            self.check_all(f"array a 199 read a[{line}] for i 10 {{ write a[6*i + 2] }}",
+                           "line 3 level 2 1 used through", 0, 0)
 
     def test_inner_loops(self):
         self.check_all("array a 99 for i 6 { for k 5 { read a[4*i + k] } write a[4*i] }", "line 2 level 2 2 used back",

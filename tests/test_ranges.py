@@ -46,6 +46,10 @@ class FitsTest(unittest.TestCase):
         self.check("array a n read a[-1]", 5, 0)
         self.check("array a n for i n { read a[n - 1 - i] }", 5, None)
         self.check("array a n for i n { read a[n - 2 - i] }", 5, 0)
+        self.check("array a n for i n { read a[i - 1] }", 5, 0)
+        self.check("array a n for i n { for k n { read a[2*i + k - 2] } }", 1, 0)
+        self.check("array a 3*n for i n { for k n { read a[2*i - k - 1] } }", 5, 0)
+        self.check("array a 3*n for i n { for k n { read a[2*i - k + n - 1] } }", 5, None)
         self.check("array a n*n for i n { for k n { read a[n*n - n - n*i + k] } }", 5, None)
         self.check("array a n*n for i n { for k n { read a[n*n - n - n*i - k] } }", 5, 0)
 
