@@ -139,11 +139,6 @@ class FarMemory(Memory):
         super().put(state)
         self._look_again()
 
-    def flush(self):
-        """Play a flush."""
-        super().flush()
-        self._look_again()
-
     def _look_again(self):
         """Find for each level and array the far parts of the lines that stand there."""
         self._parts = []

@@ -249,6 +249,9 @@ class FormulasTest(FormulaCase):
             self.check_small(f"array a 2*n + 99 array b n {word} a[40] for i n {{ {word} b[0] }} {word} a[2*n]", *caches)
             self.check_small(f"array a 2*n + 99 array b n for i n {{ {word} a[40] }} for i n {{ {word} a[2*n] }}", *caches)
         self.check_small("array a n + 99 read a[40] flush read a[n]", *caches)
+        # The line of a[40] is not in the shadow any more, but still in its set.
+        self.check_small("array a 2*n + 99 array b 99 read a[40] for i 5 { read b[2*i] } read a[2*n]",
+                         "line 1 level 2 2 used back", "line 1 level 2 1 used back level 2 2 brought back")
 
     def test_lines_that_sleep_from_some_number_on(self):
         # The line of a[40] lies behind those of the loop for small n only.

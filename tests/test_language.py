@@ -96,6 +96,40 @@ class LanguageTest(unittest.TestCase):
                     if isinstance(node.value, str):
                         self.assertNotIn(chr(37), node.value, place)
 
+    def test_names_mean_one_thing(self):
+        methods, properties, attributes, generators = set(), set(), set(), set()
+        for path, tree in trees():
+            own = {name.name for node in tree.body if isinstance(node, ast.ImportFrom) for name in node.names}
+            own |= {node.name for node in tree.body if isinstance(node, ast.ClassDef)}
+            for node in ast.walk(tree):
+                if isinstance(node, ast.ClassDef):
+                    for method in node.body:
+                        if isinstance(method, ast.FunctionDef):
+                            marks = [mark.id for mark in method.decorator_list]
+                            (properties if "property" in marks else methods).add(method.name)
+                elif isinstance(node, ast.Attribute) and isinstance(node.ctx, ast.Store):
+                    attributes.add(node.attr)
+                elif isinstance(node, ast.FunctionDef):
+                    if any(isinstance(part, (ast.Yield, ast.YieldFrom)) for part in ast.walk(node)):
+                        generators.add(node.name)
+                    names = {part.arg for part in node.args.args}
+                    names |= {part.id for part in ast.walk(node)
+                              if isinstance(part, ast.Name) and isinstance(part.ctx, ast.Store)}
+                    self.assertEqual(names & own, set(), (path, node.name))
+        self.assertEqual(methods & attributes, set())
+        self.assertEqual(properties & (methods | attributes), set())
+        # The document has a property and a generator of this one name.
+        self.assertEqual(generators & (methods | properties | attributes), {"accesses"})
+
+    def test_imports_are_used(self):
+        for path, tree in trees():
+            names = {node.id for node in ast.walk(tree) if isinstance(node, ast.Name)}
+            for node in tree.body:
+                if isinstance(node, ast.ImportFrom):
+                    for name in node.names:
+                        self.assertIn(name.name, names, path)
+                        self.assertIsNone(name.asname, path)
+
     def test_everything_is_described(self):
         for path, tree in trees():
             for node in ast.walk(tree):
