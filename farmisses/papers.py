@@ -8,10 +8,16 @@ from farmisses.ways import BrokenPaper, Follow, NearNumbers, Search
 
 def paper(program, cache, n):
     """Return a paper of the count that holds."""
+    _, entries = counted(program, cache, n)
+    return entries
+
+
+def counted(program, cache, n):
+    """Return the pair (tally, paper) of all accesses."""
     check_fits(program, n)
     way = Search(program, cache, n, NearNumbers())
     way.play_block(way.block)
-    return tuple(way.entries)
+    return (way.memory.tally, tuple(way.entries))
 
 
 def told_count(program, cache, n, value):

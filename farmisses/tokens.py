@@ -6,6 +6,7 @@ _LETTERS = "abcdefghijklmnopqrstuvwxyz"
 _DIGITS = "0123456789"
 _GAPS = " \n"
 _MOST_DIGITS = 150
+_BEYOND_DIGITS = 10 ** 64 * 10 ** 64 * 10 ** 22
 
 
 def is_word(text):
@@ -18,6 +19,16 @@ def is_number(text):
     if text == "" or (text[0] == "0" and text != "0"):
         return False
     return all([character in _DIGITS for character in text])
+
+
+def is_short_number(text):
+    """Return whether a text is a number of at most 150 digits."""
+    return is_number(text) and len(text) <= _MOST_DIGITS
+
+
+def has_few_digits(number):
+    """Return whether an integer has at most 150 digits."""
+    return abs(number) < _BEYOND_DIGITS
 
 
 def _end_of_run(text, begin):

@@ -3,9 +3,9 @@
 from farmisses.errors import DuplicateName, UnknownName
 from farmisses.sizes import Size, is_integer
 from farmisses.texts import is_name
+from farmisses.tokens import has_few_digits
 
 _DEEPEST = 30
-_BEYOND_DIGITS = 10 ** 64 * 10 ** 64 * 10 ** 22
 _MOST_PARTS = 4
 _MOST_ARRAYS = 8
 _MOST_STATEMENTS = 40
@@ -92,7 +92,7 @@ def excess(tree):
     arrays, block = tree
     statements = statements_of(block)
     sizes = sizes_of(tree)
-    if any([abs(part) >= _BEYOND_DIGITS for parts in sizes for part in parts]):
+    if any([not has_few_digits(part) for parts in sizes for part in parts]):
         return "numbers"
     if any([len(parts) > _MOST_PARTS for parts in sizes]):
         return "degree"
