@@ -1,8 +1,9 @@
 """Playing accesses one by one, on the levels of a cache."""
 
+from farmisses.errors import LimitExceeded
 from farmisses.levels import Level
-from farmisses.plans import Loop, Touch, bases_of, plan
-from farmisses.players import PlainPlayer
+from farmisses.plans import Loop, Touch, bases_of, plan, steps_in, without_idle_loops
+from farmisses.players import Player
 from farmisses.ranges import check_fits
 
 _MOST_STEPS = 400000
@@ -31,8 +32,12 @@ def _touches(block, counters):
 def plain(program, cache, n):
     """Return the tally of a program, each access played."""
     check_fits(program, n)
+    block = plan(program, n)
+    # Nothing is played where it would not be told, and no rounds are done that change nothing.
+    if steps_in(block) > _MOST_STEPS:
+        raise LimitExceeded("steps")
     memory = Memory(cache, bases_of(program, cache, n))
-    PlainPlayer(memory, _MOST_STEPS).play_block(plan(program, n))
+    Player(memory, _MOST_STEPS).play_block(without_idle_loops(block))
     return memory.tally
 
 

@@ -103,6 +103,25 @@ def made_by(statement):
     return 1 if isinstance(statement, Touch) else 0
 
 
+def steps_in(block):
+    """Return how many rounds, accesses and flushes a block makes."""
+    steps = 0
+    for statement in block:
+        steps += statement.rounds * (1 + steps_in(statement.block)) if isinstance(statement, Loop) else 1
+    return steps
+
+
+def without_idle_loops(block):
+    """Return a block without the loops, however deep they stand, that make no access and no flush."""
+    kept = []
+    for statement in block:
+        if isinstance(statement, Loop):
+            statement.block = without_idle_loops(statement.block)
+        if not isinstance(statement, Loop) or (statement.rounds > 0 and statement.block != []):
+            kept.append(statement)
+    return kept
+
+
 def touched_in(block):
     """Return the list of the pairs (touch, inner) of the accesses of a block that are made."""
     found = []

@@ -62,12 +62,3 @@ class Player:
     def play_flush(self):
         """Play a flush, which is no step of a way."""
         self.memory.flush()
-
-
-class PlainPlayer(Player):
-    """Plays statements; a flush is a step, too."""
-
-    def play_flush(self):
-        """Play a flush."""
-        self.step()
-        self.memory.flush()
