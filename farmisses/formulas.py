@@ -4,7 +4,7 @@ from farmisses.errors import InvalidNumber, LimitExceeded, OutOfRange
 from farmisses.far import FarNumbers, parts_of, width_for
 from farmisses.papers import follows, is_paper
 from farmisses.ranges import check_number, facts, first_outside
-from farmisses.sizes import Size, is_integer
+from farmisses.sizes import is_integer, value_of
 from farmisses.walks import count
 from farmisses.ways import Follow, NoCase, Search
 
@@ -45,7 +45,7 @@ class Formula:
         least, parts, _ = self._cases[rest]
         if number < least:
             return count(self._program, self._cache, n)
-        counts = {key: Size(sizes)(number) for key, sizes in parts.items()}
+        counts = {key: value_of(sizes, number) for key, sizes in parts.items()}
         return {key: many for key, many in counts.items() if many != 0}
 
     def case(self, rest):

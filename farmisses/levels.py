@@ -9,53 +9,93 @@ class Level:
     def __init__(self, level):
         sets, ways, rule, writes = level
         self.keeps_writes = writes == "back"
-        self._sets = sets
+        self.many = sets
+        self.most = sets * ways
         self._ways = ways
         self._rule = rule
-        self._rows = []
-        # The keys are the lines, the last one last.
-        self._shadow = {}
-        self.empty()
+        # The places of the sets that are not empty, by the numbers of the sets.
+        self.rows = {}
+        # The keys are the pairs (array, line), the last one last.
+        self.shadow = {}
 
     def empty(self):
         """Empty the sets and the shadow."""
-        self._rows = [places_for(self._rule, self._ways) for _ in range(self._sets)]
-        self._shadow = {}
+        self.rows = {}
+        self.shadow = {}
 
-    def row(self, number):
-        """Return the places of the set in which the line with this number in the memory lies."""
-        return self._rows[number % self._sets]
+    def begun_row(self, number):
+        """Return the places of an empty set, into which a line is brought now."""
+        row = places_for(self._rule, self._ways)
+        self.rows[number] = row
+        return row
 
     def dirty(self):
         """Return how many lines are dirty."""
-        return sum([row.dirty() for row in self._rows])
+        return sum([row.dirty() for row in self.rows.values()])
 
-    def was_near(self, array, line):
-        """Note a request for a line; return whether it stood in the shadow."""
-        key = (array, line)
-        was_there = key in self._shadow
-        if was_there:
-            del self._shadow[key]
-        elif len(self._shadow) == self._sets * self._ways:
-            del self._shadow[next(iter(self._shadow), None)]
-        self._shadow[key] = True
-        return was_there
+    def kept(self):
+        """Return what pairs_with and go_on need of what stands here now."""
+        return ({number: (list(row.held), row.extra()) for number, row in self.rows.items()}, list(self.shadow))
+
+    def pairs_with(self, kept, moves, times):
+        """Return the list of (array, line, line now) for all lines that stood when this was kept.
+
+        Return None if more than lines differs: the places that are empty, what the rules keep, or what
+        is kept with a line; or if a line neither stayed nor moved as often as times tells by what its
+        array moves.
+        """
+        rows, shadow = kept
+        if len(shadow) != len(self.shadow) or len(rows) != len(self.rows):
+            return None
+        pairs = []
+        for (array, line), (owner, at) in zip(shadow, self.shadow):
+            if array != owner or (at != line and at != line + times * moves.get(array, 0)):
+                return None
+            pairs.append((array, line, at))
+        for number, (before, extra) in rows.items():
+            row = self.rows.get(number)
+            if row is None or len(before) != len(row.held) or (extra != () and extra != row.extra()):
+                return None
+            for (array, line, is_dirty, last), (owner, at, dirty_now, last_now) in zip(before, row.held):
+                if array != owner or is_dirty != dirty_now or last != last_now:
+                    return None
+                pairs.append((array, line, at))
+        return pairs
+
+    def go_on(self, kept, times):
+        """Move each line as often more as times tells by what it moved since this was kept."""
+        rows, shadow = kept
+        for number, (before, _) in rows.items():
+            row = self.rows[number]
+            row.held = [(array, line + times * (line - other), is_dirty, last)
+                        for (_, other, _, _), (array, line, is_dirty, last) in zip(before, row.held)]
+        self.shadow = {(array, at + times * (at - line)): True
+                       for (_, line), (array, at) in zip(shadow, self.shadow)}
 
     def lines(self):
         """Return the list of the pairs (array, line) of all lines in the sets and in the shadow."""
-        return [line for row in self._rows for line in row.lines()] + list(self._shadow)
+        return [held[:2] for row in self.rows.values() for held in row.held] + list(self.shadow)
 
-    def lines_beside(self, array, number):
-        """Return the list of the lines of an array with which one with this number in the memory is compared."""
-        return [line for owner, line in self.row(number).lines() + list(self._shadow) if owner == array]
+    def lines_beside(self, array, row):
+        """Return the list of the lines of an array in a row, None for an empty one, and in the shadow."""
+        lines = [line for owner, line in self.shadow if owner == array]
+        if row is not None:
+            for owner, line, _, _ in row.held:
+                if owner == array:
+                    lines.append(line)
+        return lines
 
     def picture(self):
         """Return the pair (sets, shadow) as the state of a memory has it."""
-        return (tuple([row.picture() for row in self._rows]), tuple(reversed(list(self._shadow))))
+        blank = places_for(self._rule, self._ways)
+        rows = [self.rows.get(number, blank).picture() for number in range(self.many)]
+        return (tuple(rows), tuple(reversed(list(self.shadow))))
 
     def restore(self, picture):
         """Take what picture has returned."""
         rows, shadow = picture
-        for row, (places, extra) in zip(self._rows, rows):
-            row.restore(places, extra)
-        self._shadow = {key: True for key in reversed(list(shadow))}
+        self.rows = {}
+        for number, (places, extra) in enumerate(rows):
+            if places[0] is not None:
+                self.begun_row(number).restore(places, extra)
+        self.shadow = {key: True for key in reversed(list(shadow))}

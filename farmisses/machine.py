@@ -48,8 +48,11 @@ class Memory:
         self._cache = cache
         self._bases = list(bases)
         self._levels = [Level(level) for level in cache.levels]
+        self._last = len(cache) - 1
         self._played = 0
         self._tally = {}
+        # Whether each request is to be told to see_request.
+        self._is_watched = False
 
     @property
     def cache(self):
@@ -74,13 +77,33 @@ class Memory:
     def play(self, array, line, is_write, number):
         """Play an access, known by its number, to a line of an array, given by its index."""
         self._played += 1
-        self._request(0, array, line, is_write, number)
+        self.request(0, array, line, is_write, number)
 
     def flush(self):
         """Play a flush: empty all levels; each dirty line is written back."""
         for at, level in enumerate(self._levels):
             self._note(("back", at), level.dirty())
             level.empty()
+
+    def kept(self):
+        """Return what pairs_with and go_on need of what stands in the levels now."""
+        return [level.kept() for level in self._levels]
+
+    def pairs_with(self, kept, moves, times):
+        """Return the list of (array, line, line now) for what was kept, None if it cannot be related."""
+        pairs = []
+        for level, part in zip(self._levels, kept):
+            found = level.pairs_with(part, moves, times)
+            if found is None:
+                return None
+            pairs.extend(found)
+        return pairs
+
+    def go_on(self, kept, tally, times):
+        """Do as often more as times tells what was done since something was kept, and what was counted then."""
+        for level, part in zip(self._levels, kept):
+            level.go_on(part, times)
+        self._tally = {key: many + times * (many - tally.get(key, 0)) for key, many in self._tally.items()}
 
     def put(self, state):
         """Take a state; the tally stays."""
@@ -96,34 +119,51 @@ class Memory:
         if many > 0:
             self._tally[key] = self._tally.get(key, 0) + many
 
-    def _request(self, at, array, line, is_write, number):
-        """Do a request of an access at a level; behind the last one lies the memory."""
-        if at == len(self._levels):
-            return
-        level = self._levels[at]
-        row = level.row(self._bases[array] + line)
-        place = row.place_of(array, line)
-        was_near = level.was_near(array, line)
-        is_kept = is_write and level.keeps_writes
-        if place >= 0:
-            self._note(("hit", at, number), 1)
-            row.hit(place, is_kept, number)
-        else:
-            self._note(("miss", at, number), 1)
-            self._note(("crowded", at, number), int(was_near))
-        if is_write and not is_kept:
-            self._request(at + 1, array, line, True, number)
-        elif place < 0:
-            self._request(at + 1, array, line, False, number)
-            self._bring(at, row, (array, line, is_kept, number))
+    def see_request(self, at, array, line, row):
+        """Note a request for a line at a level, ahead of it; row is the set of the line, None if this is empty."""
 
-    def _bring(self, at, row, held):
-        """Bring a line to a level; the one that is thrown out is written back if it is dirty."""
-        _, _, _, number = held
-        thrown = row.bring(held)
-        if thrown is not None:
-            array, line, is_dirty, last = thrown
-            self._note(("thrown", at, number, last), 1)
-            if is_dirty:
-                self._note(("back", at), 1)
-                self._request(at + 1, array, line, True, number)
+    def request(self, at, array, line, is_write, number):
+        """Do a request of an access at a level; at level 0 this is the access itself, but it is not counted."""
+        level = self._levels[at]
+        place = (self._bases[array] + line) % level.many
+        row = level.rows.get(place)
+        if self._is_watched:
+            self.see_request(at, array, line, row)
+        wanted = (array, line)
+        shadow = level.shadow
+        was_near = shadow.pop(wanted, False)
+        if not was_near and len(shadow) == level.most:
+            del shadow[next(iter(shadow), None)]
+        shadow[wanted] = True
+        is_kept = is_write and level.keeps_writes
+        # What is not kept here is a write at the next level, and brings nothing.
+        goes_on = is_write and not is_kept
+        if row is None and not goes_on:
+            row = level.begun_row(place)
+        met = None if row is None else row.meet(array, line, is_kept, not goes_on, number)
+        tally = self._tally
+        if met is True:
+            key = ("hit", at, number)
+            tally[key] = tally.get(key, 0) + 1
+            if goes_on and at < self._last:
+                self.request(at + 1, array, line, True, number)
+            return
+        key = ("miss", at, number)
+        tally[key] = tally.get(key, 0) + 1
+        if was_near:
+            self._note(("crowded", at, number), 1)
+        # Behind the last level lies the memory, which takes every request.
+        if at < self._last:
+            self.request(at + 1, array, line, goes_on, number)
+        if met is not None:
+            self._throw(at, met, number)
+
+    def _throw(self, at, thrown, number):
+        """Note that an access throws a line out of a level; the line is written back if it is dirty."""
+        array, line, is_dirty, last = thrown
+        key = ("thrown", at, number, last)
+        self._tally[key] = self._tally.get(key, 0) + 1
+        if is_dirty:
+            self._note(("back", at), 1)
+            if at < self._last:
+                self.request(at + 1, array, line, True, number)

@@ -2,7 +2,12 @@
 
 A line in a place is a tuple (array, line, is_dirty, last access). The lines stand in a list: by the
 rules `used` and `brought` in the order of use or of bringing, the last one first; by the other two
-in the order of their places, which are taken in ascending order. So the empty places stand at its end.
+in the order of their places, which are taken in ascending order. So the empty places, which the list
+lacks, stand at its end.
+
+Each rule has a method meet(array, line, is_kept, is_brought, access), for a request of an access for a
+line. It returns True if the line stands here. If not, it brings the line, if that is to be brought, and
+returns the line that was thrown out, None if there is none. A line that is kept becomes dirty.
 """
 
 
@@ -11,31 +16,20 @@ class Places:
 
     def __init__(self, ways):
         self._ways = ways
-        self._held = []
+        self.held = []
 
     def place_of(self, array, line):
         """Return the place of a line, -1 if it does not stand here."""
-        for place, (owner, at, _, _) in enumerate(self._held):
+        place = 0
+        for owner, at, _, _ in self.held:
             if at == line and owner == array:
                 return place
+            place += 1
         return -1
-
-    def is_full(self):
-        """Return whether no place is empty."""
-        return len(self._held) == self._ways
-
-    def _after_hit(self, place, makes_dirty, access):
-        """Return what a line becomes by a hit of an access."""
-        array, line, is_dirty, _ = self._held[place]
-        return (array, line, is_dirty or makes_dirty, access)
-
-    def lines(self):
-        """Return the list of the pairs (array, line) of the lines."""
-        return [held[:2] for held in self._held]
 
     def dirty(self):
         """Return how many lines are dirty."""
-        return len([True for _, _, is_dirty, _ in self._held if is_dirty])
+        return len([True for _, _, is_dirty, _ in self.held if is_dirty])
 
     def extra(self):
         """Return what the rule keeps besides the order of the lines."""
@@ -43,39 +37,42 @@ class Places:
 
     def picture(self):
         """Return the pair (places, extra), with None for each empty place."""
-        return (tuple(self._held) + (None,) * (self._ways - len(self._held)), self.extra())
+        return (tuple(self.held) + (None,) * (self._ways - len(self.held)), self.extra())
 
     def restore(self, places, extra):
         """Take what picture has returned."""
-        self._held = [held for held in places if held is not None]
+        self.held = [held for held in places if held is not None]
         self.restore_extra(extra)
 
     def restore_extra(self, extra):
         """Take what extra has returned."""
 
 
+class UsedPlaces(Places):
+    """Places of which the one is taken whose line was used longest ago."""
+
+    def meet(self, array, line, is_kept, is_brought, access):
+        """Do a request."""
+        held = self.held
+        place = self.place_of(array, line)
+        if place >= 0:
+            _, _, is_dirty, _ = held.pop(place)
+            held.insert(0, (array, line, is_dirty or is_kept, access))
+            return True
+        return _put_first(held, (array, line, is_kept, access), self._ways) if is_brought else None
+
+
 class BroughtPlaces(Places):
     """Places of which the one is taken whose line was brought longest ago."""
 
-    def hit(self, place, makes_dirty, access):
-        """Note a hit of an access at a place."""
-        self._held[place] = self._after_hit(place, makes_dirty, access)
-
-    def bring(self, held):
-        """Put a line into a place; return the one that is thrown out, None if there is none."""
-        thrown = self._held.pop() if self.is_full() else None
-        self._held.insert(0, held)
-        return thrown
-
-
-class UsedPlaces(BroughtPlaces):
-    """Places of which the one is taken whose line was used longest ago."""
-
-    def hit(self, place, makes_dirty, access):
-        """Note a hit of an access at a place."""
-        held = self._after_hit(place, makes_dirty, access)
-        del self._held[place]
-        self._held.insert(0, held)
+    def meet(self, array, line, is_kept, is_brought, access):
+        """Do a request."""
+        held = self.held
+        place = self.place_of(array, line)
+        if place >= 0:
+            held[place] = (array, line, held[place][2] or is_kept, access)
+            return True
+        return _put_first(held, (array, line, is_kept, access), self._ways) if is_brought else None
 
 
 class SecondPlaces(Places):
@@ -86,29 +83,28 @@ class SecondPlaces(Places):
         self._pointer = 0
         self._lights = [False] * ways
 
-    def hit(self, place, makes_dirty, access):
-        """Note a hit of an access at a place."""
-        self._held[place] = self._after_hit(place, makes_dirty, access)
-        self._lights[place] = True
-
-    def bring(self, held):
-        """Put a line into a place; return the one that is thrown out, None if there is none."""
-        if not self.is_full():
-            # Its light is out: it is so at first, and nothing but a hit lights it.
-            self._held.append(held)
+    def meet(self, array, line, is_kept, is_brought, access):
+        """Do a request."""
+        held = self.held
+        place = self.place_of(array, line)
+        if place >= 0:
+            held[place] = (array, line, held[place][2] or is_kept, access)
+            self._lights[place] = True
+            return True
+        if not is_brought:
             return None
-        while self._lights[self._pointer]:
-            self._lights[self._pointer] = False
-            self._go_on()
+        if len(held) < self._ways:
+            # Its light is out: it is so at first, and nothing but a hit lights it.
+            held.append((array, line, is_kept, access))
+            return None
         place = self._pointer
-        thrown = self._held[place]
-        self._held[place] = held
-        self._go_on()
+        while self._lights[place]:
+            self._lights[place] = False
+            place = (place + 1) % self._ways
+        thrown = held[place]
+        held[place] = (array, line, is_kept, access)
+        self._pointer = (place + 1) % self._ways
         return thrown
-
-    def _go_on(self):
-        """Move the pointer one place further."""
-        self._pointer = (self._pointer + 1) % self._ways
 
     def extra(self):
         """Return the pointer and the lights."""
@@ -129,21 +125,24 @@ class TreePlaces(Places):
         # One bit for one pair, three for two pairs: that of the pairs is the first one.
         self._bits = [False] * (ways - 1)
 
-    def hit(self, place, makes_dirty, access):
-        """Note a hit of an access at a place."""
-        self._held[place] = self._after_hit(place, makes_dirty, access)
-        self._turn_from(place)
-
-    def bring(self, held):
-        """Put a line into a place; return the one that is thrown out, None if there is none."""
+    def meet(self, array, line, is_kept, is_brought, access):
+        """Do a request."""
+        held = self.held
+        place = self.place_of(array, line)
+        if place >= 0:
+            held[place] = (array, line, held[place][2] or is_kept, access)
+            self._turn_from(place)
+            return True
+        if not is_brought:
+            return None
         thrown = None
-        if self.is_full():
-            place = self._next_place()
-            thrown = self._held[place]
-            self._held[place] = held
+        if len(held) < self._ways:
+            place = len(held)
+            held.append((array, line, is_kept, access))
         else:
-            place = len(self._held)
-            self._held.append(held)
+            place = self._next_place()
+            thrown = held[place]
+            held[place] = (array, line, is_kept, access)
         self._turn_from(place)
         return thrown
 
@@ -182,3 +181,9 @@ def places_for(rule, ways):
     if rule == "second":
         return SecondPlaces(ways)
     return TreePlaces(ways)
+
+
+def _put_first(held, line, ways):
+    """Put a line ahead of the lines of a set; return the last one if there are more than places, else None."""
+    held.insert(0, line)
+    return held.pop() if len(held) > ways else None

@@ -2,7 +2,7 @@
 
 from math import gcd, lcm
 
-from farmisses.sizes import Size
+from farmisses.sizes import value_of
 
 
 class Touch:
@@ -35,18 +35,21 @@ class Loop:
 
     touched is the list of the pairs (touch, inner) of the accesses in it that are made, if it has a
     round itself: inner is the tuple of the pairs (depth, rounds) of the loops between it and the access.
-    factors is the dict from the arrays touched to the factors of its counter, None if it is not even;
-    pace is its pace for a period, 0 if it is not even.
+    pace is its pace for caches with a period and with lines of some cells, 0 if it is not even; moves is
+    the dict from the arrays touched to the lines by which they move in so many rounds.
     """
 
-    def __init__(self, depth, rounds, block, period):
+    def __init__(self, depth, rounds, block, period, cells):
         self.depth = depth
         self.rounds = rounds
         self.block = block
         self.many = accesses_in(block)
         self.touched = touched_in(block)
-        self.factors = even_factors(self.touched, depth)
-        self.pace = 0 if self.factors is None else pace_of(self.factors, period)
+        factors = even_factors(self.touched, depth)
+        self.pace = 0 if factors is None else pace_of(factors, period)
+        self.moves = {}
+        if factors is not None:
+            self.moves = {array: self.pace * factor // cells for array, factor in factors.items()}
 
 
 class Flush:
@@ -54,12 +57,13 @@ class Flush:
 
 
 class Planner:
-    """Makes the statements of a program ready for a number, and for caches with a period."""
+    """Makes the statements of a program ready for a number, and for caches with a period and lines of some cells."""
 
-    def __init__(self, program, n, period):
+    def __init__(self, program, n, period, cells):
         self._arrays = {name: at for at, name in enumerate(program.arrays)}
         self._n = n
         self._period = period
+        self._cells = cells
         self._number = 0
 
     def made_block(self, block, counters):
@@ -72,23 +76,24 @@ class Planner:
             return Flush()
         if statement[0] == "for":
             _, counter, parts, inner = statement
-            rounds = max(0, Size(parts)(self._n))
-            return Loop(len(counters), rounds, self.made_block(inner, counters + [counter]), self._period)
+            rounds = max(0, value_of(parts, self._n))
+            block = self.made_block(inner, counters + [counter])
+            return Loop(len(counters), rounds, block, self._period, self._cells)
         return self._touch(statement, counters)
 
     def _touch(self, statement, counters):
         """Return an access made ready."""
         word, array, (parts, factors) = statement
-        values = [(counters.index(counter), Size(factor)(self._n)) for counter, factor in factors]
+        values = [(counters.index(counter), value_of(factor, self._n)) for counter, factor in factors]
         number = self._number
         self._number += 1
-        begin = Size(parts)(self._n)
+        begin = value_of(parts, self._n)
         return Touch(number, self._arrays[array], word == "write", begin, tuple(values))
 
 
-def plan(program, n, period=1):
-    """Return the list of the statements of a program made ready for n, and for caches with a period."""
-    return Planner(program, n, period).made_block(program.body, [])
+def plan(program, n, period=1, cells=1):
+    """Return the list of the statements of a program made ready for n, and for caches with a period and such lines."""
+    return Planner(program, n, period, cells).made_block(program.body, [])
 
 
 def accesses_in(block):
@@ -158,6 +163,6 @@ def bases_of(program, cache, n):
     free = 0
     for array in program.arrays:
         bases.append(free)
-        cells = max(0, Size(program.size_of(array))(n))
+        cells = max(0, value_of(program.size_of(array), n))
         free += -(-cells // cache.line)
     return bases

@@ -25,21 +25,17 @@ class Player:
     def play_block(self, block):
         """Play the statements of a block."""
         for statement in block:
-            self.play_statement(statement)
-
-    def play_statement(self, statement):
-        """Play a statement."""
-        if isinstance(statement, Touch):
-            self.step()
-            self.play_touch(statement, statement.index_at(self._counters) // self._cells)
-        elif isinstance(statement, Loop):
-            self.play_loop(statement)
-        else:
-            self.play_flush()
-
-    def play_touch(self, touch, line):
-        """Play an access to a line."""
-        self.memory.play(touch.array, line, touch.is_write, touch.number)
+            if isinstance(statement, Touch):
+                self.steps += 1
+                if self.steps > self._most_steps:
+                    raise LimitExceeded("steps")
+                line = statement.index_at(self._counters) // self._cells
+                self.memory.request(0, statement.array, line, statement.is_write, statement.number)
+            elif isinstance(statement, Loop):
+                self.play_loop(statement)
+            else:
+                # A flush is no step of a way.
+                self.memory.flush()
 
     def play_loop(self, loop):
         """Play a loop."""
@@ -55,10 +51,8 @@ class Player:
 
     def play_round(self, loop, number):
         """Play one round of a loop."""
-        self.step()
+        self.steps += 1
+        if self.steps > self._most_steps:
+            raise LimitExceeded("steps")
         self._counters[loop.depth] = number
         self.play_block(loop.block)
-
-    def play_flush(self):
-        """Play a flush, which is no step of a way."""
-        self.memory.flush()

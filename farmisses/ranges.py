@@ -1,7 +1,7 @@
 """Numbers that a program fits: all accesses that are made lie in their arrays."""
 
 from farmisses.errors import InvalidNumber, OutOfRange
-from farmisses.sizes import Size, is_integer
+from farmisses.sizes import is_integer, value_of
 
 _GREATEST = 10 ** 60
 
@@ -30,7 +30,7 @@ def first_outside(program, n):
     """Return the number of the first access that leaves its array, None if there is none."""
     for access, least, greatest in extents(program, n):
         _, array, _ = program.accesses[access]
-        if least < 0 or greatest >= Size(program.size_of(array))(n):
+        if least < 0 or greatest >= value_of(program.size_of(array), n):
             return access
     return None
 
@@ -43,12 +43,12 @@ def facts(program, n):
     """
     found = []
     for array in program.arrays:
-        cells = Size(program.size_of(array))(n)
+        cells = value_of(program.size_of(array), n)
         found.append(1 + cells if cells >= 0 else -cells)
     _add_facts(program.body, n, found)
     for access, least, greatest in extents(program, n):
         _, array, _ = program.accesses[access]
-        found.extend([least + 1, Size(program.size_of(array))(n) - greatest])
+        found.extend([least + 1, value_of(program.size_of(array), n) - greatest])
     return found
 
 
@@ -56,13 +56,13 @@ def _add_facts(block, n, found):
     """Add what is above 0 for the loops and factors of a block."""
     for statement in block:
         if statement[0] == "for":
-            rounds = Size(statement[2])(n)
+            rounds = value_of(statement[2], n)
             found.append(rounds if rounds > 0 else 1 - rounds)
             if rounds > 0:
                 _add_facts(statement[3], n, found)
         elif statement[0] != "flush":
             _, factors = statement[2]
-            found.extend([abs(value) for value in [Size(factor)(n) for _, factor in factors] if value != 0])
+            found.extend([abs(value) for value in [value_of(factor, n) for _, factor in factors] if value != 0])
 
 
 def extents(program, n):
@@ -80,7 +80,7 @@ def _add_extents(block, last, n, access, found):
     for statement in block:
         if statement[0] == "for":
             _, counter, parts, inner = statement
-            access = _add_extents(inner, {**last, counter: Size(parts)(n) - 1}, n, access, found)
+            access = _add_extents(inner, {**last, counter: value_of(parts, n) - 1}, n, access, found)
         elif statement[0] != "flush":
             if all([value >= 0 for value in list(last.values())]):
                 found.append((access, *_ends(statement[2], last, n)))
@@ -91,10 +91,10 @@ def _add_extents(block, last, n, access, found):
 def _ends(index, last, n):
     """Return the least and the greatest value of an index."""
     parts, factors = index
-    least = Size(parts)(n)
+    least = value_of(parts, n)
     greatest = least
     for counter, factor in factors:
-        way = Size(factor)(n) * last[counter]
+        way = value_of(factor, n) * last[counter]
         least = least + min(0, way)
         greatest = greatest + max(0, way)
     return (least, greatest)

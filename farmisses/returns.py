@@ -6,10 +6,10 @@ from math import gcd
 class Sleep:
     """Tells which lines sleep from a round of a loop on, with the outer counters as they stand."""
 
-    def __init__(self, loop, begin, counters, cache):
+    def __init__(self, loop, begin, outer, cache):
         self._loop = loop
         self._begin = begin
-        self._outer = counters[:loop.depth]
+        self._outer = outer
         self._cells = cache.line
         self._period = cache.period
         self._spans = {}
@@ -66,133 +66,87 @@ class Sleep:
 
 
 class Matching:
-    """Tells which later lines may stand for which earlier ones, so many rounds of a loop before."""
+    """Tells whether later lines may stand for earlier ones, so many rounds of a loop before.
 
-    def __init__(self, moves, sleep):
+    pairs is a list of tuples (array, line, line later); moves is a dict from arrays to what they move
+    in some rounds, which are done as often as times tells.
+    """
+
+    def __init__(self, pairs, moves, times):
         self.proofs = []
+        self._are_alike = True
+        self._pairs = pairs
         self._moves = moves
-        self._sleep = sleep
-        self._later = {}
-        self._taken = {}
+        self._times = times
 
-    def matches(self, earlier, later):
-        """Return whether a state is related to an earlier one."""
-        for (_, shadow), (_, other) in zip(earlier, later):
-            if len(shadow) != len(other):
-                return False
-        for (rows, _), (others, _) in zip(earlier, later):
-            for row, other in zip(rows, others):
-                if not self._matches_row(row, other):
-                    return False
-        for (_, shadow), (_, other) in zip(earlier, later):
-            for (array, line), (owner, at) in zip(shadow, other):
-                if array != owner or not self._matches_line(array, line, at):
-                    return False
+    def holds(self, before):
+        """Return whether each later line may stand for the one before, as all others do."""
+        for array, line, at in self._pairs:
+            if at != line + self._times * self._moves.get(array, 0):
+                self._are_alike = False
+                return self._holds_one_by_one(before.sleep())
+        # Where all lines of an array are moved alike, no two of them meet or part.
         return True
 
-    def _matches_row(self, row, other):
-        """Return whether the places of a set may stand for those of an earlier one."""
-        places, extra = row
-        others, more = other
-        if extra != more:
-            return False
-        for held, now in zip(places, others):
-            if held is None or now is None:
-                if held is not None or now is not None:
+    def _holds_one_by_one(self, sleep):
+        """Return the same, where not all lines were moved."""
+        later = {}
+        taken = {}
+        for array, line, at in self._pairs:
+            key = (array, line)
+            if key in later:
+                if later[key] != at:
                     return False
-                continue
-            array, line, is_dirty, last = held
-            owner, at, is_dirty_now, last_now = now
-            if array != owner or is_dirty != is_dirty_now or last != last_now:
+            elif (array, at) in taken or not self._is_moved(array, line, at, sleep):
                 return False
-            if not self._matches_line(array, line, at):
-                return False
+            else:
+                later[key] = at
+                taken[(array, at)] = True
         return True
 
-    def _matches_line(self, array, line, at):
-        """Return whether a line of an array may stand for an earlier one, as all those before do."""
-        key = (array, line)
-        if key in self._later:
-            return self._later[key] == at
-        if (array, at) in self._taken or not self._is_moved(array, line, at):
-            return False
-        self._later[key] = at
-        self._taken[(array, at)] = True
-        return True
-
-    def _is_moved(self, array, line, at):
+    def _is_moved(self, array, line, at, sleep):
         """Return whether a line is an earlier one that was moved, or the earlier one itself which sleeps."""
-        if at == line + self._moves.get(array, 0):
+        if at == line + self._times * self._moves.get(array, 0):
             return True
         # A line of an array that is not touched was told above: it does not move.
         if at != line:
             return False
-        reasons = self._sleep.reasons(array, line)
+        reasons = sleep.reasons(array, line)
         if reasons is None:
             return False
         self.proofs.extend(reasons)
         return True
 
+    def compared(self):
+        """Return a list of lists of pairs (array, line): the earlier lines and the later ones are compared."""
+        later = [(array, at) for array, _, at in self._pairs]
+        # Lines that were moved alike lie as far apart as they did.
+        return [later] if self._are_alike else [[(array, line) for array, line, _ in self._pairs], later]
+
 
 class Before:
-    """What stood before a round of a loop: the round, the state and the tally."""
+    """What stood before a round of a loop: the round, what the memory kept of it, and the tally."""
 
     def __init__(self, loop, begin, counters, memory):
         self.begin = begin
-        self.stood = memory.state
+        self.stood = memory.kept()
         self.counts = memory.tally
         self._loop = loop
-        self._cells = memory.cache.line
-        self._sleep = Sleep(loop, begin, counters, memory.cache)
+        self._outer = counters[:loop.depth]
+        self._cache = memory.cache
+        self._sleep = None
 
-    def reasons(self, state, many):
-        """Return the numbers above 0 by which a state so many rounds later is related, None if it is not."""
-        moves = {array: many * factor // self._cells for array, factor in self._loop.factors.items()}
-        matching = Matching(moves, self._sleep)
-        if not matching.matches(self.stood, state):
+    def sleep(self):
+        """Return what tells which lines sleep from this round on; it is made when it is asked for."""
+        if self._sleep is None:
+            self._sleep = Sleep(self._loop, self.begin, self._outer, self._cache)
+        return self._sleep
+
+    def matching(self, memory, many):
+        """Return how what stands so many rounds later is related, None if it is not."""
+        times = many // self._loop.pace
+        pairs = memory.pairs_with(self.stood, self._loop.moves, times)
+        if pairs is None:
             return None
-        return matching.proofs
-
-
-def lines_in(state):
-    """Return the list of the pairs (array, line) in all places and shadows of a state."""
-    found = []
-    for rows, shadow in state:
-        found.extend(list(shadow))
-        for places, _ in rows:
-            found.extend([held[:2] for held in places if held is not None])
-    return found
-
-
-def gone_on(earlier, later, times):
-    """Return the state when what led from an earlier to a later one is done so many times more."""
-    return tuple([(tuple([_row_on(row, other, times) for row, other in zip(rows, others)]),
-                   tuple([_line_on(held, now, times) for held, now in zip(shadow, shadow_now)]))
-                  for (rows, shadow), (others, shadow_now) in zip(earlier, later)])
-
-
-def _row_on(row, other, times):
-    """Return what a set becomes."""
-    places, _ = row
-    others, extra = other
-    return (tuple([_held_on(held, now, times) for held, now in zip(places, others)]), extra)
-
-
-def _held_on(held, now, times):
-    """Return what a place becomes."""
-    if now is None:
-        return None
-    _, _, is_dirty, last = now
-    return (*_line_on(held[:2], now[:2], times), is_dirty, last)
-
-
-def _line_on(held, now, times):
-    """Return what a line becomes; one that was not moved stays."""
-    _, line = held
-    array, at = now
-    return (array, at + times * (at - line))
-
-
-def counted_on(earlier, later, times):
-    """Return the tally when what was counted between two of them is counted so many times more."""
-    return {key: many + times * (many - earlier.get(key, 0)) for key, many in later.items()}
+        found = Matching(pairs, self._loop.moves, times)
+        return found if found.holds(self) else None

@@ -6,6 +6,14 @@ def is_integer(value):
     return isinstance(value, int) and not isinstance(value, bool)
 
 
+def value_of(parts, n):
+    """Return the value, for an integer, of the size with these parts."""
+    value = 0
+    for part in reversed(parts):
+        value = value * n + part
+    return value
+
+
 def _trimmed(parts):
     """Return the parts as a tuple without the zeros at the end."""
     many = len(parts)

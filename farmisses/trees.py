@@ -1,7 +1,7 @@
 """Trees of programs: what is one, what is in it, and what is wrong with it."""
 
 from farmisses.errors import DuplicateName, UnknownName
-from farmisses.sizes import Size, is_integer
+from farmisses.sizes import is_integer, value_of
 from farmisses.texts import is_name
 from farmisses.tokens import has_few_digits
 
@@ -162,7 +162,8 @@ def fixed_tree(tree, n):
 
 def _fixed(parts, n):
     """Return the parts of the value of a size."""
-    return Size((Size(parts)(n),)).coefficients
+    value = value_of(parts, n)
+    return (value,) if value != 0 else ()
 
 
 def _fixed_block(block, n):

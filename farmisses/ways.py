@@ -3,7 +3,7 @@
 from farmisses.machine import Memory
 from farmisses.plans import Loop, bases_of, made_by, plan
 from farmisses.players import Player
-from farmisses.returns import Before, counted_on, gone_on, lines_in
+from farmisses.returns import Before
 
 _MOST_STEPS = 100000
 
@@ -39,27 +39,25 @@ class Way(Player):
 
     def __init__(self, program, cache, n, numbers):
         Player.__init__(self, numbers.memory_for(cache, bases_of(program, cache, n)), _MOST_STEPS)
-        self.block = plan(program, n, cache.period)
+        self.block = plan(program, n, cache.period, cache.line)
         self._numbers = numbers
 
     def mark(self, loop, begin):
         """Return what stands before a round of a loop."""
         return Before(loop, begin, self._counters, self.memory)
 
-    def take_return(self, loop, before, many, reasons, end):
+    def take_return(self, loop, before, matching, many, end):
         """Do so many rounds at once as often as they go into the rounds up to end, then those that lack.
 
-        The way stands so many rounds behind the mark, and the states are related by these reasons.
+        The way stands so many rounds behind the mark, and what stands is related by this matching.
         """
         here = before.begin + many
         times = (end - here) // many
-        state = self.memory.state
-        for number in [*reasons, loop.rounds - here]:
+        for number in [*matching.proofs, loop.rounds - here]:
             self._numbers.see_above(number)
-        for compared in [before.stood, state]:
-            self._numbers.see_lines(lines_in(compared))
-        self.memory.put(gone_on(before.stood, state, times))
-        self.memory.take(counted_on(before.counts, self.memory.tally, times))
+        for lines in matching.compared():
+            self._numbers.see_lines(lines)
+        self.memory.go_on(before.stood, before.counts, times)
         self.play_rounds(loop, here + times * many, end)
 
 
@@ -92,12 +90,12 @@ class Search(Way):
         for number in range(end):
             many = 0 if before is None else number - before.begin
             if many > 0 and many % loop.pace == 0 and number + many <= end:
-                reasons = before.reasons(self.memory.state, many)
-                if reasons is not None and self._numbers.goes_into(loop.rounds, many):
+                matching = before.matching(self.memory, many)
+                if matching is not None and self._numbers.goes_into(loop.rounds, many):
                     self.entries[entry] = (before.begin, many)
-                    self.take_return(loop, before, many, reasons, end)
+                    self.take_return(loop, before, matching, many, end)
                     return
-                if reasons is not None:
+                if matching is not None:
                     spoiled = self._spoiled(spoiled, before)
             if number == next_mark and number + 2 * loop.pace <= end:
                 before = self.mark(loop, number)
@@ -126,7 +124,7 @@ class Search(Way):
                 self._counters[statement.depth] = rounds
                 self.play_upto(statement.block, time - rounds * statement.many)
                 return
-            self.play_statement(statement)
+            self.play_block([statement])
             time -= made_by(statement)
 
 
@@ -159,7 +157,7 @@ class Follow(Way):
         self.play_rounds(loop, 0, begin)
         before = self.mark(loop, begin)
         self.play_rounds(loop, begin, begin + many)
-        reasons = before.reasons(self.memory.state, many)
-        if reasons is None or not self._numbers.goes_into(loop.rounds, many):
+        matching = before.matching(self.memory, many)
+        if matching is None or not self._numbers.goes_into(loop.rounds, many):
             raise BrokenPaper()
-        self.take_return(loop, before, many, reasons, loop.rounds)
+        self.take_return(loop, before, matching, many, loop.rounds)

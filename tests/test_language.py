@@ -121,6 +121,54 @@ class LanguageTest(unittest.TestCase):
         # The document has a property and a generator of this one name.
         self.assertEqual(generators & (methods | properties | attributes), {"accesses"})
 
+    def iterated(self, node):
+        """What a loop goes over: itself, or what its enumerate, zip, reversed or view goes over."""
+        if not isinstance(node, ast.Call):
+            return [node]
+        if isinstance(node.func, ast.Attribute):
+            return [node.func.value]
+        if node.func.id in ("enumerate", "zip", "reversed"):
+            return [part for argument in node.args for part in self.iterated(argument)]
+        return []
+
+    def test_what_is_iterated_over_is_not_modified(self):
+        changing = {"append", "clear", "extend", "insert", "pop", "remove", "reverse", "setdefault", "update"}
+        for path, tree in trees():
+            for node in ast.walk(tree):
+                if not isinstance(node, ast.For):
+                    continue
+                over = {ast.unparse(part) for part in self.iterated(node.iter)}
+                for part in [part for line in node.body for part in ast.walk(line)]:
+                    changed = None
+                    if isinstance(part, ast.Call) and isinstance(part.func, ast.Attribute) and part.func.attr in changing:
+                        changed = ast.unparse(part.func.value)
+                    elif isinstance(part, ast.Subscript) and not isinstance(part.ctx, ast.Load):
+                        changed = ast.unparse(part.value)
+                    self.assertNotIn(changed, over, (path, node.lineno))
+
+    def test_generators_are_iterated_at_once(self):
+        generators = {node.name for _, tree in trees() for node in ast.walk(tree) if isinstance(node, ast.FunctionDef)
+                      and any(isinstance(part, (ast.Yield, ast.YieldFrom)) for part in ast.walk(node))}
+        for path, tree in trees():
+            calls = [node for node in ast.walk(tree) if isinstance(node, ast.Call)
+                     and isinstance(node.func, ast.Name) and node.func.id in generators]
+            iterated = [node.iter for node in ast.walk(tree) if isinstance(node, (ast.For, ast.comprehension))]
+            iterated += [node.value for node in ast.walk(tree) if isinstance(node, ast.YieldFrom)]
+            iterated += [node.args[0] for node in ast.walk(tree) if isinstance(node, ast.Call) and node.args
+                         and isinstance(node.func, ast.Name) and node.func.id in ("list", "tuple", "dict")]
+            for call in calls:
+                self.assertIn(call, iterated, (path, call.lineno))
+                for argument in call.args:
+                    self.assertIsInstance(argument, (ast.Name, ast.Attribute, ast.Constant, ast.Dict), (path, call.lineno))
+
+    def test_names_of_methods(self):
+        for path, tree in trees():
+            for node in ast.walk(tree):
+                if isinstance(node, ast.ClassDef):
+                    for method in node.body:
+                        if isinstance(method, ast.FunctionDef):
+                            self.assertNotIn(method.name, ("keys", "values", "items", "sort", "decode"), path)
+
     def test_imports_are_used(self):
         for path, tree in trees():
             names = {node.id for node in ast.walk(tree) if isinstance(node, ast.Name)}
