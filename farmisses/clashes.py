@@ -1,6 +1,6 @@
 """Judging the orders of a nest: rounds that touch one cell and change places."""
 
-from farmisses.differences import solution
+from farmisses.differences import Sums
 from farmisses.errors import Uneven
 from farmisses.plans import Touch, plan
 from farmisses.sizes import is_integer
@@ -20,13 +20,16 @@ class Judge:
             block = loop.block
         self._sites = [statement for statement in block if isinstance(statement, Touch)]
         self._differences = self._differences_found()
+        # In an even nest, all accesses of an array that is written have the same factors.
+        self._shared = {touch.array: self._factors(touch) for touch in self._sites}
         self._known = {}
 
     def _differences_found(self):
-        """Return a dict from (array, difference of the indexes) to the numbers of two accesses that have it."""
+        """Return a dict from arrays to dicts from differences of indexes to the two accesses that have it."""
         found = {}
         for touch, other in self._compared():
-            found.setdefault((touch.array, touch.begin - other.begin), (touch.number, other.number))
+            of_array = found.setdefault(touch.array, {})
+            of_array.setdefault(touch.begin - other.begin, (touch.number, other.number))
         return found
 
     def _compared(self):
@@ -82,14 +85,15 @@ class Judge:
 
     def _clash_within(self, spans):
         """Return a clash of two rounds that lie apart in these spans, None if there is none."""
-        for (_, difference), (access, other) in self._differences.items():
-            factors = self._factors(self._sites[access])
-            terms = [(factor, least, greatest) for factor, (least, greatest) in zip(factors, spans)]
-            apart = solution(terms, difference)
-            if apart is not None:
-                begin = tuple([max(0, -number) for number in apart])
-                end = tuple([max(0, number) for number in apart])
-                return (access, other, begin, end)
+        for array, of_array in self._differences.items():
+            factors = self._shared[array]
+            sums = Sums([(factor, least, greatest) for factor, (least, greatest) in zip(factors, spans)])
+            for difference, (access, other) in of_array.items():
+                apart = sums.values_for(difference)
+                if apart is not None:
+                    begin = tuple([max(0, -number) for number in apart])
+                    end = tuple([max(0, number) for number in apart])
+                    return (access, other, begin, end)
         return None
 
     def is_clash(self, order, value):

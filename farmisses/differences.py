@@ -36,16 +36,46 @@ class Term:
         return (first, max(0, (last - first) // self.stride + 1))
 
 
-class Finder:
-    """Looks for the values of terms, in the order of their factors, the greatest one first."""
+class Sums:
+    """The sums that values in spans make, each times its factor.
+
+    terms is a list of triples (factor, least, greatest), one for each value.
+    """
 
     def __init__(self, terms):
+        self._is_empty = any([least > greatest for _, least, greatest in terms])
+        # Where the factor is 0, or the span has one number, there is nothing to look for.
+        self._settled = [min(max(0, least), greatest) for _, least, greatest in terms]
+        self._base = 0
+        self._signs = [factor for factor, _, _ in terms]
+        places = []
+        for at, (factor, least, greatest) in enumerate(terms):
+            if factor == 0 or least == greatest:
+                self._base += factor * self._settled[at]
+            else:
+                places.append((abs(factor), at))
+        # The greatest factor comes first: it leaves the fewest values.
+        self._places = [at for _, at in sorted(places, reverse=True)]
         self._terms = []
-        for factor, least, greatest in reversed(terms):
+        for at in reversed(self._places):
+            factor, least, greatest = _upright(terms[at])
             self._terms.insert(0, Term(factor, least, greatest, self._terms))
         self._tried = 0
 
-    def found(self, at, target):
+    def values_for(self, target):
+        """Return a list of values that make a sum, None if there are none."""
+        if self._is_empty:
+            return None
+        self._tried = 0
+        found = self._found(0, target - self._base)
+        if found is None:
+            return None
+        values = list(self._settled)
+        for at, value in zip(self._places, found):
+            values[at] = value if self._signs[at] > 0 else -value
+        return values
+
+    def _found(self, at, target):
         """Return the list of values of the terms from one on that make a number, None if there are none."""
         if at == len(self._terms):
             return [] if target == 0 else None
@@ -56,35 +86,10 @@ class Finder:
             if self._tried > _MOST_TRIED:
                 raise LimitExceeded("differences")
             value = first + term.stride * _outward(number, many)
-            values = self.found(at + 1, target - term.factor * value)
+            values = self._found(at + 1, target - term.factor * value)
             if values is not None:
                 return [value] + values
         return None
-
-
-def solution(terms, target):
-    """Return a list of values that make the target, None if there are none.
-
-    terms is a list of triples (factor, least, greatest), one for each value.
-    """
-    if any([least > greatest for _, least, greatest in terms]):
-        return None
-    # Where the factor is 0, or the span has one number, there is nothing to look for.
-    values = [min(max(0, least), greatest) for _, least, greatest in terms]
-    open_ones = []
-    for at, (factor, least, greatest) in enumerate(terms):
-        if factor == 0 or least == greatest:
-            target -= factor * values[at]
-        else:
-            open_ones.append((abs(factor), at))
-    open_ones = sorted(open_ones, reverse=True)
-    finder = Finder([_upright(terms[at]) for _, at in open_ones])
-    found = finder.found(0, target)
-    if found is None:
-        return None
-    for (_, at), value in zip(open_ones, found):
-        values[at] = value if terms[at][0] > 0 else -value
-    return values
 
 
 def _upright(term):

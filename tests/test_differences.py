@@ -4,7 +4,7 @@ import itertools
 import unittest
 
 import oracle
-from farmisses.differences import solution
+from farmisses.differences import Sums
 from farmisses.errors import LimitExceeded
 
 
@@ -15,7 +15,7 @@ def made(terms, values):
 class DifferencesTest(unittest.TestCase):
 
     def check(self, terms, target, is_found):
-        values = solution(list(terms), target)
+        values = Sums(list(terms)).values_for(target)
         self.assertEqual(values is not None, is_found, (terms, target))
         if is_found:
             self.assertEqual(len(values), len(terms))
@@ -60,7 +60,7 @@ class DifferencesTest(unittest.TestCase):
         terms = [(10 ** 20 + 39, -10 ** 6, 10 ** 6), (10 ** 20 + 129, -10 ** 6, 10 ** 6),
                  (10 ** 20 + 151, -10 ** 6, 10 ** 6)]
         with self.assertRaises(LimitExceeded) as caught:
-            solution(terms, 1)
+            Sums(terms).values_for(1)
         self.assertEqual(caught.exception.word, "differences")
         for bounds in [(1250, 2, 2), (17, 17, 17), (36, 34, 2, 2), (11, 11, 10, 2, 2), (6, 6, 6, 5, 4)]:
             terms = [(10 ** 20 + 10 ** (3 * at) + 7, 1 - bound, bound - 1) for at, bound in enumerate(bounds)]
