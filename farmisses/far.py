@@ -28,11 +28,15 @@ def width_for(program):
 def parts_of(number, width):
     """Return the coefficients of a size in m; those below 0 are told by a digit too great."""
     half = 1 << (width - 1)
+    mask = 2 * half - 1
     parts = []
     while number != 0:
-        part = (number + half) % (2 * half) - half
+        part = number & mask
+        number >>= width
+        if part >= half:
+            part -= 2 * half
+            number += 1
         parts.append(part)
-        number = (number - part) >> width
     return tuple(parts)
 
 
@@ -104,15 +108,18 @@ class FarNumbers:
         for other in others:
             number = abs(line - other)
             if number >= half and number not in known:
-                _add_known(known, number)
-                far = self.far_part(number)
-                self._note_apart(far, number - (far << self.width))
+                self._see_difference(number)
 
     def see_lines(self, lines):
         """Note that lines, given by pairs (array, line), are compared with one another."""
         if len(lines) <= _FEW_LINES:
+            half = self.half
+            known = self._known_apart
             for at, (array, line) in enumerate(lines):
-                self.see_apart(line, [other for owner, other in lines[:at] if owner == array])
+                for owner, other in lines[:at]:
+                    number = abs(line - other)
+                    if owner == array and number >= half and number not in known:
+                        self._see_difference(number)
         elif any([len(found) > 1 for found in list(self.far_parts(lines).values())]):
             self._see_spans(lines)
 
@@ -137,6 +144,12 @@ class FarNumbers:
         for array, line in lines:
             found.setdefault(array, {})[(line + self.half) >> self.width] = True
         return found
+
+    def _see_difference(self, number):
+        """Note that lines differ by a number with m, of which this was not known."""
+        _add_known(self._known_apart, number)
+        far = self.far_part(number)
+        self._note_apart(far, number - (far << self.width))
 
     def _note_apart(self, far, near):
         """Note that a sum is taken not to be 0, far being a multiple of what stands for m.
