@@ -93,9 +93,9 @@ class Level:
 
     def restore(self, picture):
         """Take what picture has returned."""
-        rows, shadow = picture
+        sets, shadow = picture
         self.rows = {}
-        for number, (places, extra) in enumerate(rows):
+        for number, (places, extra) in enumerate(sets):
             if places[0] is not None:
                 self.begun_row(number).restore(places, extra)
         self.shadow = {key: True for key in reversed(list(shadow))}
